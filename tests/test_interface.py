@@ -1,0 +1,67 @@
+"""The opening words of the interface: each name exists as written, in its file."""
+
+import importlib
+import inspect
+import unittest
+
+FUNCTIONS = {
+    "spillsheet.grid": {
+        "cell_name": ["cell"],
+        "parse_cell": ["text"],
+        "area_name": ["area"],
+        "parse_area": ["text"],
+        "area_at": ["cell", "rows", "columns"],
+        "contains": ["area", "cell"],
+        "overlaps": ["first", "second"],
+        "cells_of": ["area"],
+    },
+    "spillsheet.expressions": {
+        "is_expression": ["value"],
+        "depth_of": ["expression"],
+        "references_of": ["expression"],
+    },
+}
+
+CLASSES = {
+    "spillsheet.errors": [
+        "SheetError", "BadAddress", "BadFormula", "BadContent", "OutOfGrid", "TooLarge",
+        "NotUndecided", "NothingToUndo", "NothingToRedo", "BadFile", "BadCommand",
+    ],
+}
+
+
+class InterfaceTest(unittest.TestCase):
+    def test_functions_are_defined_in_their_files(self):
+        for module_name, functions in FUNCTIONS.items():
+            module = importlib.import_module(module_name)
+            for name in functions:
+                with self.subTest(module=module_name, name=name):
+                    function = getattr(module, name)
+                    self.assertTrue(inspect.isfunction(function))
+                    self.assertEqual(function.__module__, module_name)
+                    self.assertEqual(function.__name__, name)
+
+    def test_arguments_have_the_names_shown_and_may_be_passed_by_position(self):
+        for module_name, functions in FUNCTIONS.items():
+            module = importlib.import_module(module_name)
+            for name, arguments in functions.items():
+                with self.subTest(module=module_name, name=name):
+                    parameters = inspect.signature(getattr(module, name)).parameters.values()
+                    self.assertEqual([parameter.name for parameter in parameters], arguments)
+                    for parameter in parameters:
+                        self.assertEqual(parameter.kind, inspect.Parameter.POSITIONAL_OR_KEYWORD)
+                        self.assertIs(parameter.default, inspect.Parameter.empty)
+
+    def test_classes_are_defined_in_their_files(self):
+        for module_name, classes in CLASSES.items():
+            module = importlib.import_module(module_name)
+            for name in classes:
+                with self.subTest(module=module_name, name=name):
+                    found = getattr(module, name)
+                    self.assertTrue(inspect.isclass(found))
+                    self.assertEqual(found.__module__, module_name)
+                    self.assertEqual(found.__name__, name)
+
+
+if __name__ == "__main__":
+    unittest.main()
