@@ -1,12 +1,15 @@
 """The tuple form of expressions: which values are expressions, and what is in them."""
 
 from spillsheet.grid import is_area, is_cell
-from spillsheet.integers import is_integer_between
+from spillsheet.integers import LARGEST_NUMBER, is_integer_between
 
-LARGEST_NUMBER = 10 ** 9
 LARGEST_DEPTH = 12
 
 OPERATORS = ("+", "-", "*", "/", "<", "<=", "=")
+# From the operators that bind the least to those that bind the most; a factor binds even more.
+OPERATOR_LEVELS = (("<", "<=", "="), ("+", "-"), ("*", "/"))
+COMPARISON_LEVEL = 0
+FACTOR_LEVEL = 3
 REFERENCE_KINDS = ("cell", "range", "spill", "badref")
 
 # For every function the numbers of arguments that it takes.

@@ -7,6 +7,7 @@ from spillsheet.errors import BadAddress
 from spillsheet.integers import is_integer_between
 
 GRID_SIZE = 12
+LETTERS = "ABCDEFGHIJKLMNOPQRSTUVWXYZ"
 
 # Names are looked up whole, so that leading zeros and digits beyond 0 to 9 are no names.
 ROW_NAMES = ("1", "2", "3", "4", "5", "6", "7", "8", "9", "10", "11", "12")
@@ -34,7 +35,8 @@ def is_area(value):
 def cell_name(cell):
     """The name of a cell."""
     row, column = cell
-    return COLUMN_NAMES[column] + ROW_NAMES[row]
+    # Not looked up among the names of the grid: a cell may lie somewhat beyond it.
+    return LETTERS[column] + str(row + 1)
 
 
 def parse_cell(text):

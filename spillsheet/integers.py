@@ -1,4 +1,6 @@
-"""What counts as an integer."""
+"""What counts as an integer, and the limit of the numbers."""
+
+LARGEST_NUMBER = 10 ** 9
 
 
 def is_integer_between(value, least, most):

@@ -20,6 +20,17 @@ FUNCTIONS = {
         "depth_of": ["expression"],
         "references_of": ["expression"],
     },
+    "spillsheet.parser": {"parse": ["text"]},
+    "spillsheet.printer": {"print_expression": ["expression"]},
+    "spillsheet.scalars": {
+        "is_scalar": ["value"],
+        "is_error": ["scalar"],
+        "as_number": ["scalar"],
+        "apply_operator": ["operator", "left", "right"],
+        "negate": ["scalar"],
+        "aggregate": ["name", "scalars"],
+    },
+    "spillsheet.evaluate": {"evaluate": ["expression", "part", "sheet", "answers"]},
 }
 
 CLASSES = {
