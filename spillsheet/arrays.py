@@ -118,7 +118,10 @@ class Filter(Node):
 
 
 class Cut(Node):
-    """What TAKE and DROP have in common: an array and a scalar argument."""
+    """What TAKE and DROP have in common: an array and a scalar argument.
+
+    Each of them has its own rows_left and failure_with.
+    """
 
     def plain_rows(self):
         """The rows that are left, but at least 1."""

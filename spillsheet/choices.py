@@ -6,7 +6,10 @@ from spillsheet.scalars import is_error
 
 
 class Choice(Node):
-    """What IF and IFERROR have in common; branches are the two nodes to choose from."""
+    """What IF and IFERROR have in common: branches, the two nodes to choose from.
+
+    Each of them has its own chosen, which returns a branch, or None if there is no choice.
+    """
 
     def __init__(self, source, operands, branches):
         Node.__init__(self, source, operands)

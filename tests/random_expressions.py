@@ -83,3 +83,42 @@ def _answer_formula(source, answers, cell, share, scalars):
         for j in range(answers.get(("columns", cell), 3)):
             if source.random() < share:
                 answers["element", cell, i, j] = source.choice(scalars)
+
+
+def random_spilling_sheet(source, rows, columns, formulas):
+    """A sheet of this size with so many formulas, most of which return small arrays."""
+    cells = [(row, column) for row in range(rows) for column in range(columns)]
+    contents = {}
+    for cell in source.sample(cells, min(formulas, len(cells))):
+        contents[cell] = _spilling_formula(source, cells)
+    for cell in cells:
+        if cell not in contents and source.random() < 0.1:
+            contents[cell] = source.choice([0, 1, 2, -1])
+    return (rows, columns, contents)
+
+
+def _spilling_formula(source, cells):
+    first, second = source.choice(cells), source.choice(cells)
+    down, right = ("number", source.randrange(1, 4)), ("number", source.randrange(1, 4))
+    cell, spill = ("cell",) + first, ("spill",) + second
+    area = ("range", min(first[0], second[0]), min(first[1], second[1]),
+            max(first[0], second[0]), max(first[1], second[1]))
+    return source.choice([
+        ("call", "SEQ", (down, right)),
+        ("call", "SEQ", (down, right)),
+        ("call", "SEQ", (("binary", "+", ("number", 1), cell), right)),
+        ("call", "SEQ", (down, ("binary", "+", ("number", 1), cell))),
+        ("call", "IF", (cell, ("call", "SEQ", (down,)), ("call", "SEQ", (("number", 1), right)))),
+        ("call", "IF", (("call", "COUNT", (cell,)), ("number", 2), ("call", "SEQ", (down, right)))),
+        ("call", "IFERROR", (cell, ("call", "SEQ", (down, right)))),
+        ("call", "IFERROR", (spill, area)),
+        ("call", "TRANSPOSE", (spill,)),
+        ("call", "FILTER", (area, ("binary", "<", ("number", 0), area))),
+        ("call", "TAKE", (area, down)),
+        ("call", "SUM", (area,)),
+        ("call", "STACK", (cell, cell)),
+        ("call", "BESIDE", (("call", "ROWS", (spill,)), cell)),
+        ("binary", "+", area, cell),
+        ("binary", "+", spill, ("number", 1)),
+        area, spill, cell,
+    ])

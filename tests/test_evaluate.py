@@ -5,6 +5,7 @@ import time
 import unittest
 
 from spillsheet.evaluate import evaluate
+from spillsheet.expressions import depth_of
 from spillsheet.parser import parse
 from tests.answers import asked, result_of, shown, shown_below
 from tests.samples import nested
@@ -16,6 +17,16 @@ SHEET = (8, 6, {(0, 3): ("number", 1), (1, 3): ("cell", 0, 0), (0, 4): 7})
 COLUMN = shown_below("A1", 5, None, -2, 9, "#DIV")
 # Rows of two cells in B1:C4.
 TABLE = {**shown_below("B1", 3, 1, 2, 1), **shown_below("C1", 10, 20, 30, 40)}
+
+
+class CountingDict(dict):
+    """A dict that counts how often something is looked up in it."""
+
+    count = 0
+
+    def __contains__(self, key):
+        self.count += 1
+        return dict.__contains__(self, key)
 
 
 class EvaluateTestCase(unittest.TestCase):
@@ -775,6 +786,29 @@ class DeepExpressionsTest(EvaluateTestCase):
                     for part in (("rows",), ("columns",), ("failure",), ("element", 0, 0)):
                         evaluate(expression, part, big, answers)
         self.assertLess(time.perf_counter() - started, 60)
+
+    def test_no_answer_is_looked_up_again_and_again(self):
+        one, two = ("number", 1), ("number", 2)
+        spill, cell = ("spill", 0, 3), ("cell", 0, 0)
+        ways = [
+            lambda e: ("call", "IF", (one, e, ("negate", e))),
+            lambda e: ("call", "IFERROR", (e, ("negate", e))),
+            lambda e: ("call", "FILTER", (e, ("negate", e))),
+            lambda e: ("call", "STACK", (("call", "TAKE", (e, one)), ("call", "TAKE", (e, two)))),
+            lambda e: ("binary", "+", e, ("call", "SORT", (e,))),
+            lambda e: ("call", "TAKE", (e, ("call", "ROWS", (e,)))),
+        ]
+        for core in (spill, cell):
+            for answers in ({}, result_of("D1", status="single"), result_of("D1", 2, 1, "spilled"),
+                            result_of("D1", 2, 1, "spilled", [[1], [2]]) | shown(A1=1)):
+                for wrap in ways:
+                    expression = nested(5, wrap, core)
+                    if depth_of(nested(11, wrap, core)) == 12:
+                        expression = nested(11, wrap, core)
+                    for part in (("rows",), ("columns",), ("failure",), ("element", 0, 0)):
+                        counting = CountingDict(answers)
+                        evaluate(expression, part, SHEET, counting)
+                        self.assertLess(counting.count, 300, msg=(expression[:2], core, part))
 
     def test_values_of_deep_expressions(self):
         self.check_result(nested(11, lambda e: ("negate", e), ("cell", 0, 0)), COLUMN, [[-5]])

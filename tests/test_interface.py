@@ -31,7 +31,24 @@ FUNCTIONS = {
         "aggregate": ["name", "scalars"],
     },
     "spillsheet.evaluate": {"evaluate": ["expression", "part", "sheet", "answers"]},
+    "spillsheet.sheets": {"is_sheet": ["value"], "formulas_of": ["sheet"]},
+    "spillsheet.rules": {
+        "questions_of": ["sheet", "answers"],
+        "apply_rule": ["sheet", "answers", "question"],
+    },
+    "spillsheet.settle": {"settle": ["sheet"], "display": ["sheet"]},
+    "spillsheet.certificates": {
+        "derivation": ["sheet"],
+        "check_derivation": ["sheet", "steps"],
+        "waiting_chain": ["sheet", "question"],
+        "waiting_set": ["sheet", "question"],
+        "check_waiting_set": ["sheet", "steps", "questions"],
+        "is_complete_state": ["sheet", "state"],
+    },
 }
+
+# The arguments after *, with their default values.
+NAMED_ARGUMENTS = {("spillsheet.settle", "settle"): {"known": None}}
 
 CLASSES = {
     "spillsheet.errors": [
@@ -58,10 +75,15 @@ class InterfaceTest(unittest.TestCase):
             for name, arguments in functions.items():
                 with self.subTest(module=module_name, name=name):
                     parameters = inspect.signature(getattr(module, name)).parameters.values()
-                    self.assertEqual([parameter.name for parameter in parameters], arguments)
-                    for parameter in parameters:
-                        self.assertEqual(parameter.kind, inspect.Parameter.POSITIONAL_OR_KEYWORD)
+                    plain = [parameter for parameter in parameters
+                             if parameter.kind == inspect.Parameter.POSITIONAL_OR_KEYWORD]
+                    self.assertEqual([parameter.name for parameter in plain], arguments)
+                    for parameter in plain:
                         self.assertIs(parameter.default, inspect.Parameter.empty)
+                    others = {parameter.name: parameter.default for parameter in parameters
+                              if parameter.kind == inspect.Parameter.KEYWORD_ONLY}
+                    self.assertEqual(others, NAMED_ARGUMENTS.get((module_name, name), {}))
+                    self.assertEqual(len(plain) + len(others), len(parameters))
 
     def test_classes_are_defined_in_their_files(self):
         for module_name, classes in CLASSES.items():
