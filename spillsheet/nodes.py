@@ -55,7 +55,7 @@ class Node:
 
     def plain_element(self, i, j):
         """An element if there is no failure."""
-        raise NotImplementedError("each kind of expression has its own elements")
+        raise NotImplementedError("every kind of expression defines this itself")
 
     def value(self, part):
         """A part, worked out only once."""
