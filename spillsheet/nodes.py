@@ -13,7 +13,7 @@ class Source:
     """
 
     def __init__(self, sheet, answers):
-        self.sheet = sheet
+        self.whole_sheet = sheet
         self.answers = answers
         self.nodes = {}
         self.missing = {}
@@ -39,7 +39,7 @@ class Node:
     def __init__(self, source, operands):
         self.source = source
         self.operands = operands
-        self.kept = {}
+        self.parts = {}
 
     def plain_rows(self):
         """The rows if there is no failure."""
@@ -59,17 +59,17 @@ class Node:
 
     def value(self, part):
         """A part, worked out only once."""
-        if part in self.kept:
-            return self.kept[part]
+        if part in self.parts:
+            return self.parts[part]
         key = (self, part)
         if key in self.source.missing:
             raise MissingAnswers(self.source.missing[key])
         try:
-            self.kept[part] = self._work_out(part)
+            self.parts[part] = self._work_out(part)
         except MissingAnswers as e:
             self.source.missing[key] = e.questions
             raise
-        return self.kept[part]
+        return self.parts[part]
 
     def rows(self):
         """The rows of the result."""

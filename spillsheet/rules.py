@@ -29,7 +29,7 @@ class Rules:
     """The rules of one sheet, applied to answers that may become more, but do not change."""
 
     def __init__(self, sheet, answers):
-        self.sheet = sheet
+        self.whole_sheet = sheet
         self.answers = answers
         self.source = Source(sheet, answers)
         self.formula_nodes = {}
@@ -55,7 +55,7 @@ class Rules:
     def _node_in(self, cell):
         """The node of the formula in a cell."""
         if cell not in self.formula_nodes:
-            _, _, contents = self.sheet
+            _, _, contents = self.whole_sheet
             self.formula_nodes[cell] = node_of(contents[cell], self.source)
         return self.formula_nodes[cell]
 
@@ -66,7 +66,7 @@ class Rules:
         if rows == 1 and columns == 1:
             return "single"
         area = area_at(cell, rows, columns)
-        if not is_area_inside(self.sheet, area) or has_other_content(self.sheet, area, cell):
+        if not is_area_inside(self.whole_sheet, area) or has_other_content(self.whole_sheet, area, cell):
             return "blocked"
         rivals = self._rivals_in_first_row(area)
         for formula, place in rivals:
@@ -89,7 +89,7 @@ class Rules:
 
     def _shown_in(self, cell):
         """The scalar that a cell shows."""
-        _, _, contents = self.sheet
+        _, _, contents = self.whole_sheet
         content = contents.get(cell)
         if content is None:
             return self._shown_in_empty(cell)
@@ -112,7 +112,7 @@ class Rules:
     def _reaching(self, cell):
         """The formulas that can reach a cell, found only once."""
         if cell not in self.reaching:
-            self.reaching[cell] = formulas_reaching(self.sheet, cell)
+            self.reaching[cell] = formulas_reaching(self.whole_sheet, cell)
         return self.reaching[cell]
 
     def _wait_for(self, rivals, kinds):

@@ -5,8 +5,8 @@ of a sign is the sign itself; the other kinds are range, spill, cell, function, 
 """
 
 from spillsheet.grid import LETTERS
+from spillsheet.integers import DIGITS
 
-DIGITS = "0123456789"
 SIGNS = ("<=", "+", "-", "*", "/", "<", "=", "(", ")", ",")
 BADREF_WORD = "#REF"
 

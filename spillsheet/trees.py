@@ -54,14 +54,14 @@ def _new_node(expression, operands, source):
 
 def _window_of(area, source):
     """The node of a reference to the cells of an area."""
-    if not is_area_inside(source.sheet, area):
+    if not is_area_inside(source.whole_sheet, area):
         return Constant(source, NO_REFERENCE)
     return Window(source, area)
 
 
 def _spill_of(cell, source):
     """The node of a reference to the result of a formula."""
-    if not holds_formula(source.sheet, cell):
+    if not holds_formula(source.whole_sheet, cell):
         return Constant(source, NO_REFERENCE)
     return Spill(source, cell)
 

@@ -45,6 +45,15 @@ FUNCTIONS = {
         "check_waiting_set": ["sheet", "steps", "questions"],
         "is_complete_state": ["sheet", "state"],
     },
+    "spillsheet.references": {"translate": ["expression", "down", "right"]},
+    "spillsheet.edits": {
+        "insert_rows": ["sheet", "at", "count"],
+        "insert_columns": ["sheet", "at", "count"],
+        "delete_rows": ["sheet", "at", "count"],
+        "delete_columns": ["sheet", "at", "count"],
+        "copy_cells": ["sheet", "area", "target"],
+    },
+    "spillsheet.dependencies": {"kept_questions": ["before", "after"]},
 }
 
 # The arguments after *, with their default values.
@@ -55,6 +64,37 @@ CLASSES = {
         "SheetError", "BadAddress", "BadFormula", "BadContent", "OutOfGrid", "TooLarge",
         "NotUndecided", "NothingToUndo", "NothingToRedo", "BadFile", "BadCommand",
     ],
+    "spillsheet.workbook": ["Workbook"],
+}
+
+# For every class that is more than an error its methods with their arguments.
+METHODS = {
+    ("spillsheet.workbook", "Workbook"): {
+        "__init__": ["rows", "columns"],
+        "__eq__": ["other"],
+        "__len__": [],
+        "set_cell": ["cell", "text"],
+        "insert_rows": ["at", "count"],
+        "insert_columns": ["at", "count"],
+        "delete_rows": ["at", "count"],
+        "delete_columns": ["at", "count"],
+        "copy": ["area", "target"],
+        "undo": [],
+        "redo": [],
+        "sheet": [],
+        "state": [],
+        "text_of": ["cell"],
+        "shown": ["cell"],
+        "status": ["cell"],
+        "changes": [],
+        "kept": [],
+    },
+}
+
+# The arguments of methods that have a default value.
+DEFAULTS = {
+    (method, "count"): 1
+    for method in ("insert_rows", "insert_columns", "delete_rows", "delete_columns")
 }
 
 
@@ -94,6 +134,20 @@ class InterfaceTest(unittest.TestCase):
                     self.assertTrue(inspect.isclass(found))
                     self.assertEqual(found.__module__, module_name)
                     self.assertEqual(found.__name__, name)
+
+    def test_methods_are_defined_in_the_classes_themselves(self):
+        for (module_name, class_name), methods in METHODS.items():
+            found = getattr(importlib.import_module(module_name), class_name)
+            for name, arguments in methods.items():
+                with self.subTest(name=name):
+                    self.assertTrue(inspect.isfunction(vars(found).get(name)))
+                    own, *parameters = inspect.signature(vars(found)[name]).parameters.values()
+                    self.assertEqual(own.name, "self")
+                    self.assertEqual([parameter.name for parameter in parameters], arguments)
+                    for parameter in parameters:
+                        self.assertEqual(parameter.kind, inspect.Parameter.POSITIONAL_OR_KEYWORD)
+                        expected = DEFAULTS.get((name, parameter.name), inspect.Parameter.empty)
+                        self.assertEqual(parameter.default, expected)
 
 
 if __name__ == "__main__":

@@ -1,0 +1,18 @@
+"""The examples in README.md."""
+
+import doctest
+import pathlib
+import unittest
+
+README = pathlib.Path(__file__).parent.parent / "README.md"
+
+
+class ReadmeTest(unittest.TestCase):
+    def test_examples(self):
+        found = doctest.testfile(str(README), module_relative=False)
+        self.assertGreater(found.attempted, 20)
+        self.assertEqual(found.failed, 0)
+
+
+if __name__ == "__main__":
+    unittest.main()
