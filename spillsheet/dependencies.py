@@ -4,13 +4,14 @@ Whether an answer is kept is worked out for subjects: tuples (kind, cell). The s
 is what a cell holds, "shown" is the question of this kind, "result" stands for the questions
 rows, columns and element of a formula, which all depend on the same, and "status" for the
 question of this kind. As status depends on rows and columns, whatever depends on it depends on
-all questions about the formula.
+all questions about the formula. Subjects of cells outside the grid may be named here: as these
+cells are never edited, such subjects make no difference.
 """
 
 from spillsheet.expressions import references_of
 from spillsheet.grid import area_at, cells_of
 from spillsheet.settle import settle
-from spillsheet.sheets import formulas_of, grid_cells, holds_formula, is_formula, is_grid_cell
+from spillsheet.sheets import formulas_of, grid_cells, holds_formula, is_formula
 
 RESULT_KINDS = ("rows", "columns", "element")
 
@@ -82,14 +83,12 @@ def _needed_for_result(sheet, formula):
         elif kind != "badref":
             # Of a cell reference, the first cell is the last one, too.
             area = reference[1:3] + reference[-2:]
-            needed.extend([("shown", cell) for cell in cells_of(area) if is_grid_cell(sheet, cell)])
+            needed.extend([("shown", cell) for cell in cells_of(area)])
     return needed
 
 
 def _needed_for_spill(sheet, cell):
     """What a reference to the result of the formula in a cell depends on."""
-    if not is_grid_cell(sheet, cell):
-        return []
     if holds_formula(sheet, cell):
         return [("content", cell), ("status", cell)]
     return [("content", cell)]
@@ -104,7 +103,7 @@ def _needed_for_status(sheet, state, formula):
         return needed
     row, column = formula
     _, _, bottom, right = area_at(formula, rows, columns)
-    for other in _cells_up_to(sheet, bottom, right):
+    for other in cells_of((0, 0, bottom, right)):
         needed.append(("content", other))
         if other[0] < row and other[1] > column and holds_formula(sheet, other):
             needed.append(("status", other))
@@ -120,14 +119,8 @@ def _needed_for_shown(sheet, cell):
     if content is not None:
         return [("content", cell)]
     needed = []
-    for other in _cells_up_to(sheet, cell[0], cell[1]):
+    for other in cells_of((0, 0) + cell):
         needed.append(("content", other))
         if holds_formula(sheet, other):
             needed.append(("status", other))
     return needed
-
-
-def _cells_up_to(sheet, bottom, right):
-    """The cells of the grid that are not below a row and not to the right of a column."""
-    rows, columns, _ = sheet
-    return cells_of((0, 0, min(bottom, rows - 1), min(right, columns - 1)))

@@ -80,6 +80,16 @@ def subexpressions_of(expression):
     return []
 
 
+def head_of(expression):
+    """The tuple of an expression up to where its subexpressions begin."""
+    kind = expression[0]
+    if kind == "negate":
+        return expression[:1]
+    if kind == "binary" or kind == "call":
+        return expression[:2]
+    return expression
+
+
 def _one_level_deeper(level):
     """The subexpressions of all expressions of a list."""
     return [part for expression in level for part in subexpressions_of(expression)]

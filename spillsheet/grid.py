@@ -41,7 +41,7 @@ def cell_name(cell):
 
 def parse_cell(text):
     """The cell of a name; raises BadAddress for any value that is not the name of a cell."""
-    cell = _cell_or_none(text)
+    cell = cell_or_none(text)
     if cell is None:
         raise BadAddress(text)
     return cell
@@ -55,7 +55,7 @@ def area_name(area):
 
 def parse_area(text):
     """The area of a name; raises BadAddress for any value that is not the name of an area."""
-    area = _area_or_none(text)
+    area = area_or_none(text)
     if area is None:
         raise BadAddress(text)
     return area
@@ -89,20 +89,20 @@ def cells_of(area):
     return [(row, column) for row in range(top, bottom + 1) for column in range(left, right + 1)]
 
 
-def _cell_or_none(text):
+def cell_or_none(text):
     """The cell that any value is the name of, or None."""
     if not isinstance(text, str) or text[:1] not in COLUMN_NAMES or text[1:] not in ROW_NAMES:
         return None
     return (ROW_NAMES.index(text[1:]), COLUMN_NAMES.index(text[:1]))
 
 
-def _area_or_none(text):
+def area_or_none(text):
     """The area that any value is the name of, or None."""
     if not isinstance(text, str):
         return None
     first, _, second = text.partition(":")
-    start = _cell_or_none(first)
-    end = _cell_or_none(second)
+    start = cell_or_none(first)
+    end = cell_or_none(second)
     if start is None or end is None:
         return None
     area = start + end

@@ -108,7 +108,8 @@ class TreeBuilder:
         if kind == "number":
             return ("number", int(word))
         if kind == "badref":
-            return ("badref",)
+            # Written as a literal, it would be the same tuple each time.
+            return (kind,)
         if kind == "range":
             return ("range",) + parse_area(word)
         if kind == "function":

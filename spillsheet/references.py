@@ -33,6 +33,7 @@ def moving(distance):
 def inserting(at, count):
     """Changes spans as inserting rows or columns does."""
     def grown(place):
+        """Where a row or column is after that."""
         if place >= at:
             return place + count
         return place
@@ -45,6 +46,7 @@ def deleting(at, count):
     end = at + count
 
     def shrunk(first, last):
+        """The span after that."""
         if first >= end:
             first -= count
         elif first >= at:
@@ -105,5 +107,6 @@ def _reference_over(kind, rows, columns):
 
 def _lost_reference():
     """A reference to nothing."""
-    # Written as a literal, it would be the same tuple each time, and what is returned is new.
-    return tuple(["badref"])
+    kind = "badref"
+    # Written as a literal, it would be the same tuple each time.
+    return (kind,)

@@ -2,7 +2,7 @@
 
 from spillsheet.expressions import is_expression
 from spillsheet.grid import GRID_SIZE
-from spillsheet.integers import is_integer_between
+from spillsheet.integers import is_integer_between, written_integer
 from spillsheet.scalars import is_number
 
 
@@ -53,6 +53,14 @@ def holds_formula(sheet, cell):
     """Whether a cell is inside the grid and holds a formula."""
     _, _, contents = sheet
     return is_grid_cell(sheet, cell) and is_formula(contents.get(cell))
+
+
+def written_size(word):
+    """The number of rows or columns of a grid that a word writes, or None."""
+    size = written_integer(word, len(str(GRID_SIZE)))
+    if is_integer_between(size, 1, GRID_SIZE):
+        return size
+    return None
 
 
 def _is_content(value):

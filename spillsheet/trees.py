@@ -2,7 +2,7 @@
 
 from spillsheet.arrays import Dropped, Filter, Sequence, Sorted, Stack, Taken, Transposition
 from spillsheet.choices import Condition, Replacement
-from spillsheet.expressions import subexpressions_of
+from spillsheet.expressions import head_of, subexpressions_of
 from spillsheet.leaves import Constant, Spill, Window
 from spillsheet.operations import (
     Aggregate, ColumnCount, Negation, Operation, RowCount, Selection,
@@ -16,20 +16,10 @@ def node_of(expression, source):
     """The node of an expression; equal expressions over the same source have the same node."""
     operands = [node_of(operand, source) for operand in subexpressions_of(expression)]
     # The operands stand here as nodes, because tuples in keys may not be nested deep.
-    key = _without_subexpressions(expression) + tuple(operands)
+    key = head_of(expression) + tuple(operands)
     if key not in source.nodes:
         source.nodes[key] = _new_node(expression, operands, source)
     return source.nodes[key]
-
-
-def _without_subexpressions(expression):
-    """The tuple of an expression up to where its subexpressions begin."""
-    kind = expression[0]
-    if kind == "negate":
-        return expression[:1]
-    if kind == "binary" or kind == "call":
-        return expression[:2]
-    return expression
 
 
 def _new_node(expression, operands, source):

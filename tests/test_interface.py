@@ -54,6 +54,9 @@ FUNCTIONS = {
         "copy_cells": ["sheet", "area", "target"],
     },
     "spillsheet.dependencies": {"kept_questions": ["before", "after"]},
+    "spillsheet.compiler": {"compile_expression": ["expression"]},
+    "spillsheet.machine": {"run_program": ["program", "part", "sheet", "answers"]},
+    "spillsheet.files": {"save_text": ["sheet"], "load_text": ["text"]},
 }
 
 # The arguments after *, with their default values.
@@ -65,6 +68,7 @@ CLASSES = {
         "NotUndecided", "NothingToUndo", "NothingToRedo", "BadFile", "BadCommand",
     ],
     "spillsheet.workbook": ["Workbook"],
+    "spillsheet.console": ["Console"],
 }
 
 # For every class that is more than an error its methods with their arguments.
@@ -89,6 +93,7 @@ METHODS = {
         "changes": [],
         "kept": [],
     },
+    ("spillsheet.console", "Console"): {"__init__": [], "say": ["command"]},
 }
 
 # The arguments of methods that have a default value.

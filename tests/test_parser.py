@@ -76,6 +76,7 @@ class RightTextsTest(ParserTestCase):
         self.check("#REF", ("badref",))
         self.check("#REF+#REF", binary("+", ("badref",), ("badref",)))
         self.check("SUM(#REF)", call("SUM", ("badref",)))
+        self.assertIsNot(parse("#REF"), parse("#REF"))
 
     def test_all_operators(self):
         for operator in ("+", "-", "*", "/", "<", "<=", "="):

@@ -119,6 +119,7 @@ class TranslateTest(unittest.TestCase):
     def test_a_lost_reference_does_not_come_back(self):
         lost = translate(parse("A1"), -1, 0)
         self.check(lost, 1, 0, BADREF)
+        self.assertIsNot(translate(lost, 1, 0), translate(lost, 1, 0))
 
     def test_very_large_distances(self):
         for distance in (12, 10 ** 9, 10 ** 60 - 1):
